@@ -1,0 +1,1 @@
+"""Reelhall: one dance, told to each dancer alone."""

@@ -1,0 +1,13 @@
+"""The refusals of the program."""
+
+
+class ReelError(ValueError):
+    pass
+
+
+class NoPart(ReelError):
+    pass
+
+
+class NoMove(ReelError):
+    pass
