@@ -19,6 +19,8 @@ UNDERSCORED = {"__init__", "__eq__", "__repr__", "__str__", "__len__", "__all__"
 WORDS_NOWHERE = re.compile(r"\b(type|typing|typing_extensions|enum|Enum|IntEnum|StrEnum|Flag|IntFlag|Generic|Protocol|"
                            r"ABC|ABCMeta|namedtuple|NamedTuple|TypedDict|TYPE_CHECKING|abstractmethod)\b|"
                            r"dataclass|overload|contextmanager")
+PLAIN_KINDS = (str, int, list, tuple, dict, set, frozenset, bytes)
+WALKERS = ("list", "tuple", "dict", "sorted", "sum", "any", "all", "enumerate", "zip", "min", "max")
 NODES = (ast.Module, ast.ImportFrom, ast.alias, ast.FunctionDef, ast.ClassDef, ast.arguments, ast.arg, ast.Lambda,
          ast.Assign, ast.AugAssign, ast.If, ast.While, ast.For, ast.Return, ast.Break, ast.Continue, ast.Pass,
          ast.Raise, ast.Try, ast.ExceptHandler, ast.Expr, ast.Constant, ast.Name, ast.List, ast.Tuple, ast.Dict,
@@ -89,6 +91,77 @@ def method_faults(tree, own_methods):
                 yield f"the method {node.func.attr}"
 
 
+def class_faults(tree):
+    for node in ast.walk(tree):
+        if not isinstance(node, ast.ClassDef):
+            continue
+        if node not in tree.body:
+            yield "a class that stands not at the top"
+        if len(node.bases) > 1 or node.keywords:
+            yield "more than one base"
+        methods = [part.name for part in node.body if isinstance(part, ast.FunctionDef)]
+        others = [part for part in node.body if not isinstance(part, (ast.FunctionDef, ast.Pass))]
+        if [part for part in others if not (isinstance(part, ast.Expr) and isinstance(part.value, ast.Constant))]:
+            yield "a value in a class body"
+        if len(methods) != len(set(methods)):
+            yield "a method that stands twice"
+        for name in set(methods) - UNDERSCORED - METHODS - {"add", "discard"}:
+            if any(hasattr(kind, name) for kind in PLAIN_KINDS):
+                yield f"a method called {name}"
+        for name in values_set(node):
+            if name in methods or any(hasattr(kind, name) for kind in PLAIN_KINDS):
+                yield f"a value called {name}"
+
+
+def values_set(tree):
+    return {node.attr for node in ast.walk(tree) if isinstance(node, ast.Attribute) and isinstance(node.ctx, ast.Store)}
+
+
+def local_faults(tree):
+    taken = {alias.asname or alias.name for node in tree.body if isinstance(node, ast.ImportFrom)
+             for alias in node.names}
+    taken |= {node.name for node in tree.body if isinstance(node, ast.ClassDef)}
+    for node in ast.walk(tree):
+        name = node.arg if isinstance(node, ast.arg) else None
+        if isinstance(node, ast.Name) and isinstance(node.ctx, ast.Store):
+            name = node.id
+        if name in taken:
+            yield f"another meaning for {name}"
+
+
+def is_walk(node):
+    """A call of something that is to be walked where it stands."""
+    if not isinstance(node, ast.Call):
+        return False
+    if isinstance(node.func, ast.Attribute):
+        return node.func.attr in ("items", "keys", "values")
+    return isinstance(node.func, ast.Name) and node.func.id in ("zip", "enumerate", "reversed", "range")
+
+
+def walk_faults(tree):
+    walked = []
+    for node in ast.walk(tree):
+        if isinstance(node, (ast.For, ast.comprehension)):
+            walked.append(node.iter)
+        if isinstance(node, ast.Call) and isinstance(node.func, ast.Name) and node.func.id in WALKERS:
+            walked.extend(node.args)
+    for node in ast.walk(tree):
+        if is_walk(node) and node not in walked:
+            yield f"kept and not walked: {ast.unparse(node)}"
+        if isinstance(node, ast.Name) and node.id in ("set", "frozenset"):
+            yield "a set"
+
+
+def error_faults(tree):
+    for node in ast.walk(tree):
+        if isinstance(node, ast.ExceptHandler) and (not isinstance(node.type, ast.Name) or node.type.id in OWN_NAMES):
+            yield "an error of Python's own is taken"
+        if isinstance(node, ast.Raise) and not isinstance(node.exc, ast.Call):
+            yield "an error that is not made on the spot"
+        if isinstance(node, ast.FormattedValue) and (not isinstance(node.value, ast.Name) or node.format_spec):
+            yield "other than a plain name in an f-string"
+
+
 def top_faults(tree):
     names = []
     for k, node in enumerate(tree.body):
@@ -140,6 +213,33 @@ class LanguageTest(unittest.TestCase):
         own = {part.name for tree in self.trees.values() for node in ast.walk(tree) if isinstance(node, ast.ClassDef)
                for part in node.body if isinstance(part, ast.FunctionDef)}
         self.assert_no_faults(lambda tree: method_faults(tree, own))
+
+    def test_classes(self):
+        self.assert_no_faults(class_faults)
+        methods = {part.name for tree in self.trees.values() for node in ast.walk(tree)
+                   if isinstance(node, ast.ClassDef) for part in node.body if isinstance(part, ast.FunctionDef)}
+        values = {name for tree in self.trees.values() for name in values_set(tree)}
+        self.assertEqual(methods & values, set())
+
+    def test_locals(self):
+        self.assert_no_faults(local_faults)
+
+    def test_walks_and_sets(self):
+        # The rules leave a set some room; the package uses none at all.
+        self.assert_no_faults(walk_faults)
+
+    def test_errors(self):
+        # The rules let some of Python's own errors be taken; the package takes its own alone.
+        self.assert_no_faults(error_faults)
+
+    def test_no_two_files_draw_from_one_another(self):
+        draws = {name: {node.module.split(".")[1] + ".py" for node in tree.body if isinstance(node, ast.ImportFrom)}
+                 for name, tree in self.trees.items()}
+        while draws:
+            free = [name for name in draws if not draws[name] & set(draws)]
+            self.assertTrue(free, draws)
+            for name in free:
+                del draws[name]
 
     def test_tops(self):
         self.assert_no_faults(top_faults)

@@ -3,19 +3,11 @@ import unittest
 
 from reelhall.knowing import apart
 from reelhall.things import goes, is_dance, renamed
-from tests.examples import END, FOUR, ONE_PLACE, ROUND, WRITTEN, drawn_dances
+from tests.examples import END, FOUR, ONE_PLACE, ROUND, WRITTEN, drawn_dances, drawn_orders
 
 
 def turned_back(order):
     return tuple(order.index(k) for k in range(len(order)))
-
-
-def drawn_orders(rng, dance):
-    dancers = list(range(dance[0]))
-    others = list(range(1, len(dance[1])))
-    rng.shuffle(dancers)
-    rng.shuffle(others)
-    return tuple(dancers), (0,) + tuple(others)
 
 
 class RenamedTest(unittest.TestCase):
